@@ -3,10 +3,11 @@
 A refusal is found before anything is changed, the one nearest to 0 first.
 """
 
-from boilerplans.modes import is_on, off_mode
-from boilerplans.plans import least_cost, modes_together, plan_levels
+from boilerplans.costs import NO_PLAN, costs_to_come, is_proved, least_cost, least_cost_with, modes_together
+from boilerplans.modes import choices, hour_cost, is_on, off_mode, told_mode
+from boilerplans.plans import plan_levels
 from boilerplans.plant import modes_at, move_cost
-from boilerplans.units import units_of
+from boilerplans.units import lines_of, text_of, units_of, wrong_line
 
 MOST_MODES = 600
 MOST_HOURS = 48
@@ -23,6 +24,9 @@ NOT_TO_BE_DONE = -6
 CANT_BE_AT_LEVEL = 1
 LOAD_NOT_MET = 2
 WRONG_LENGTH = 3
+
+# What a table tells where there's no plan.
+NO_COST = -1
 
 
 def all_within(numbers, most):
@@ -154,6 +158,95 @@ def trip_call(plant, given):
     return [0]
 
 
+def table_call(plant, given):
+    hour = given[0]
+    if not plant.now <= hour <= len(plant.loads):
+        return [NOT_IN_RANGE]
+    if len(plant.units) == 0:
+        return [NOT_THE_TIME]
+    return [0] + [cost if cost < NO_PLAN else NO_COST for cost in costs_to_come(plant, hour)]
+
+
+def prove_call(plant, given):
+    hour = given[0]
+    told = given[1]
+    told_later = given[2]
+    together = modes_together(plant.units)
+    if not is_to_come(plant, hour) or len(told) != together or len(told_later) != together:
+        return [NOT_IN_RANGE]
+    return [0, 1 if is_proved(plant, hour, told, told_later) else 0]
+
+
+def state_call(plant, given):
+    answer = [0, plant.now, plant.spent, len(plant.loads)]
+    for unit, mode in zip(plant.units, plant.modes):
+        answer.extend(told_mode(unit, mode))
+    return answer
+
+
+def anchor_call(plant, given):
+    cost = least_cost(plant)
+    if cost is None:
+        return [NOT_SO]
+    plant.set_mark(cost)
+    return [0, cost]
+
+
+def regret_call(plant, given):
+    if plant.marked is None:
+        return [NOT_THE_TIME]
+    cost = least_cost(plant)
+    if cost is None:
+        return [NOT_SO]
+    return [0, plant.spent + cost - plant.marked]
+
+
+def worth_call(plant, given):
+    hour = given[0]
+    if not is_to_come(plant, hour):
+        return [NOT_IN_RANGE]
+    cost = least_cost(plant)
+    if cost is None:
+        return [NOT_SO]
+    with_more = least_cost_with(plant, hour, plant.loads[hour] + 1)
+    if with_more is None:
+        return [0, 0]
+    return [0, 1, with_more - cost]
+
+
+def print_call(plant, given):
+    return [0] + text_of(plant.units)
+
+
+def options_call(plant, given):
+    number = given[0]
+    if not is_unit(plant, number):
+        return [NOT_IN_RANGE]
+    if not is_to_come(plant, plant.now):
+        return [NOT_THE_TIME]
+    unit = plant.units[number]
+    mode = plant.modes[number]
+    answer = [0]
+    for chosen in choices(unit, mode, plant.available[plant.now][number]):
+        answer.extend(told_mode(unit, chosen) + [hour_cost(unit, mode, chosen)])
+    return answer
+
+
+def read_call(plant, given):
+    text = given[0]
+    wrong = wrong_line(text)
+    if wrong > 0:
+        return [0, 0, wrong]
+    return [0, 1, len(lines_of(text))]
+
+
+def hour_call(plant, given):
+    hour = given[0]
+    if not 0 <= hour < len(plant.loads):
+        return [NOT_IN_RANGE]
+    return [0, plant.loads[hour]] + [1 if available else 0 for available in plant.available[hour]]
+
+
 # By the calls' numbers.
 CALLS = (
     units_call,
@@ -166,4 +259,14 @@ CALLS = (
     check_call,
     go_call,
     trip_call,
+    table_call,
+    prove_call,
+    state_call,
+    anchor_call,
+    regret_call,
+    worth_call,
+    print_call,
+    options_call,
+    read_call,
+    hour_call,
 )

@@ -34,6 +34,11 @@ def level_in(unit, mode):
     return 0
 
 
+def told_mode(unit, mode):
+    """A mode in three numbers: whether it's on, for how many hours, at which level."""
+    return [1 if is_on(unit, mode) else 0, hours_in(unit, mode), level_in(unit, mode)]
+
+
 def choices_from_off(unit, hours, available):
     chosen = [off_mode(unit, hours + 1)]
     if available and hours == unit.hours_off:

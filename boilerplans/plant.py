@@ -14,13 +14,14 @@ class Plant:
         self.modes = [off_mode(unit, unit.hours_off) for unit in units]
         self.now = 0
         self.spent = 0
-        self.ways = None
+        self.ground = None
         self.set_day([])
 
     def set_day(self, loads):
         self.loads = list(loads)
         self.available = [[True] * len(self.units) for load in loads]
         self.tables = []
+        self.marked = None
 
     def set_load(self, hour, load):
         self.loads[hour] = load
@@ -37,6 +38,10 @@ class Plant:
 
     def hours_to_come(self):
         return list(range(self.now, len(self.loads)))
+
+    def set_mark(self, cost):
+        # Only the sum of what was spent and what was to come is ever asked for.
+        self.marked = self.spent + cost
 
     def pass_hour(self, chosen, cost):
         self.modes = chosen

@@ -86,16 +86,70 @@ def unit_of(line):
     return Unit(name, numbers)
 
 
+def lines_of(text):
+    """The lines of a text; what stands behind the last line's end is one, too, if there is something."""
+    parts = parts_of(text, LINE_END)
+    return parts if len(parts[-1]) > 0 else parts[:-1]
+
+
+def first_wrong_line(lines):
+    """The number, from 1, of the first line that tells no unit or one whose name is known; 0 if none is wrong."""
+    names = []
+    for number, line in enumerate(lines, start=1):
+        unit = unit_of(line)
+        if unit is None or unit.name in names:
+            return number
+        names.append(unit.name)
+    return 0
+
+
+def wrong_line(text):
+    """The number, from 1, of the line for which a text tells no units; 0 if it tells some."""
+    lines = lines_of(text)
+    if len(lines) == 0:
+        return 1
+    if len(lines) > MOST_UNITS:
+        return MOST_UNITS + 1
+    wrong = first_wrong_line(lines)
+    if wrong == 0 and text[-1] != LINE_END:
+        return len(lines)
+    return wrong
+
+
 def units_of(text):
     """The units that a text tells, None if it tells none."""
-    parts = parts_of(text, LINE_END)
-    lines = parts[:-1]
-    if len(parts[-1]) > 0 or len(lines) == 0 or len(lines) > MOST_UNITS:
+    if wrong_line(text) > 0:
         return None
-    units = []
-    for line in lines:
-        unit = unit_of(line)
-        if unit is None or unit.name in [known.name for known in units]:
-            return None
-        units.append(unit)
-    return units
+    return [unit_of(line) for line in lines_of(text)]
+
+
+def numbers_in(unit):
+    """A unit's numbers, as they stand in its line."""
+    return [
+        unit.least,
+        unit.greatest,
+        unit.start_cost,
+        unit.run_cost,
+        unit.level_cost,
+        unit.hours_on,
+        unit.hours_off,
+        unit.ramp,
+    ]
+
+
+def line_of(unit):
+    """A unit's line in the one text."""
+    line = []
+    tokens = [unit.name] + [bytes_of(str(number)) for number in numbers_in(unit)]
+    for word, token in zip(WORDS, tokens):
+        line.extend(bytes_of(word) + [BLANK] + token + [BLANK])
+    line[-1] = LINE_END
+    return line
+
+
+def text_of(units):
+    """The one text of some units."""
+    text = []
+    for unit in units:
+        text.extend(line_of(unit))
+    return text

@@ -9,6 +9,10 @@ from boilerplans.desk import answers
 FAR = 10 ** 18
 LEAST = [5]
 PLAN = [6]
+STATE = [12]
+ANCHOR = [13]
+REGRET = [14]
+PRINT = [16]
 
 
 def line(name="a", least=2, greatest=5, start=10, run=3, per=1, up=2, down=2, ramp=1):
@@ -50,6 +54,30 @@ def go(*levels):
 
 def trip(unit):
     return [9, unit]
+
+
+def table(hour):
+    return [10, hour]
+
+
+def prove(hour, a, b):
+    return [11, hour] + row_of(a) + row_of(b)
+
+
+def worth(hour):
+    return [15, hour]
+
+
+def options(unit):
+    return [17, unit]
+
+
+def read(text):
+    return [18] + row_of(text.encode("latin-1"))
+
+
+def hour_of(hour):
+    return [19, hour]
 
 
 def parted(answered):
@@ -100,6 +128,19 @@ def model_units(text):
     return tuple(found)
 
 
+def model_wrong(text):
+    """The number of the first wrong line of a text, 0 if it tells units."""
+    lines = text.split("\n")
+    if lines[-1] == "":
+        lines = lines[:-1]
+    if len(lines) > 4:
+        return 5
+    for many in range(1, len(lines) + 1):
+        if model_units("\n".join(lines[:many]) + "\n") is None:
+            return many
+    return 0 if text.endswith("\n") else max(len(lines), 1)
+
+
 class Model:
     """The document, word by word: modes are tuples of 1 (on) or 0 (off), the hours, the level."""
 
@@ -112,6 +153,25 @@ class Model:
         self.loads = []
         self.out = set()
         self.now = 0
+        self.spent = 0
+        self.mark = None
+        self.forget()
+
+    def forget(self):
+        """To be called when the hours have changed: makes a new memory of the cheapest plans."""
+        @functools.lru_cache(maxsize=None)
+        def cheapest_from(hour, modes):
+            if hour == len(self.loads):
+                return 0, ()
+            best = None
+            for move in self.moves(modes, hour):
+                rest = cheapest_from(hour + 1, move)
+                if rest is not None:
+                    whole = self.cost(modes, move) + rest[0]
+                    if best is None or whole < best[0]:
+                        best = whole, (move,) + rest[1]
+            return best
+        self.cheapest_from = cheapest_from
 
     def can_be(self, unit, mode, hour):
         low, high, up, down, ramp = (self.units[unit][k] for k in (1, 2, 6, 7, 8))
@@ -132,12 +192,12 @@ class Model:
                 if abs(reached - level) <= ramp:
                     yield (1, min(hours + 1, up), reached)
 
+    def cost_of(self, unit, was, mode):
+        told = self.units[unit]
+        return told[4] + mode[2] * told[5] + (0 if was[0] else told[3]) if mode[0] else 0
+
     def cost(self, before, after):
-        total = 0
-        for unit, was, mode in zip(self.units, before, after):
-            if mode[0]:
-                total += unit[4] + mode[2] * unit[5] + (0 if was[0] else unit[3])
-        return total
+        return sum(self.cost_of(unit, was, mode) for unit, (was, mode) in enumerate(zip(before, after)))
 
     def moves(self, modes, hour):
         every = [list(self.can_be(unit, mode, hour)) for unit, mode in enumerate(modes)]
@@ -147,19 +207,16 @@ class Model:
 
     def cheapest(self):
         """The cost and the moves of the plan, None if there's none."""
-        @functools.lru_cache(maxsize=None)
-        def from_here(hour, modes):
-            if hour == len(self.loads):
-                return 0, ()
-            best = None
-            for move in self.moves(modes, hour):
-                rest = from_here(hour + 1, move)
-                if rest is not None:
-                    whole = self.cost(modes, move) + rest[0]
-                    if best is None or whole < best[0]:
-                        best = whole, (move,) + rest[1]
-            return best
-        return from_here(self.now, self.modes)
+        return self.cheapest_from(self.now, self.modes)
+
+    def all_modes(self):
+        """All modes together, in order."""
+        every = []
+        for unit in self.units:
+            off = [(0, hours, 0) for hours in range(1, unit[7] + 1)]
+            on = [(1, hours, level) for hours in range(1, unit[6] + 1) for level in range(unit[1], unit[2] + 1)]
+            every.append(off + on)
+        return list(itertools.product(*every))
 
     def moved(self, modes, hour, levels):
         """The modes with these levels in an hour, None if a unit can't be at its level."""
@@ -199,6 +256,7 @@ class Model:
         cost = self.cost(self.modes, move)
         self.modes = move
         self.now += 1
+        self.spent += cost
         return [0, cost]
 
     def tell(self, text):
@@ -218,7 +276,8 @@ class Model:
             return [-1]
         if not self.units or self.now:
             return [-3]
-        self.loads, self.out = list(row), set()
+        self.loads, self.out, self.mark = list(row), set(), None
+        self.forget()
         return [0, len(row)]
 
     def to_come(self):
@@ -226,6 +285,7 @@ class Model:
 
     def change(self, number, given):
         """The calls forecast, out, back and trip."""
+        self.forget()
         if number == 2:
             if given[0] not in self.to_come() or not 0 <= given[1] <= 240:
                 return [-1]
@@ -245,10 +305,87 @@ class Model:
             self.modes = self.modes[:given[0]] + ((0, 1, 0),) + self.modes[given[0] + 1:]
         return [0]
 
+    def table(self, hour):
+        if not self.now <= hour <= len(self.loads):
+            return [-1]
+        if not self.units:
+            return [-3]
+        found = [self.cheapest_from(hour, modes) for modes in self.all_modes()]
+        return [0] + [-1 if best is None else best[0] for best in found]
+
+    def prove(self, hour, a, b):
+        every = self.all_modes()
+        if hour not in self.to_come() or len(a) != len(every) or len(b) != len(every):
+            return [-1]
+        later = dict(zip(every, b))
+        for modes, told in zip(every, a):
+            for move in self.moves(modes, hour):
+                if not (later[move] < 0 or 0 <= told <= later[move] + self.cost(modes, move)):
+                    return [0, 0]
+        return [0, 1]
+
+    def state(self):
+        return [0, self.now, self.spent, len(self.loads)] + [number for mode in self.modes for number in mode]
+
+    def anchor(self):
+        best = self.cheapest()
+        if best is None:
+            return [-4]
+        self.mark = (self.spent, best[0])
+        return [0, best[0]]
+
+    def regret(self):
+        best = self.cheapest()
+        if self.mark is None:
+            return [-3]
+        if best is None:
+            return [-4]
+        return [0, self.spent + best[0] - sum(self.mark)]
+
+    def worth(self, hour):
+        if hour not in self.to_come():
+            return [-1]
+        before = self.cheapest()
+        if before is None:
+            return [-4]
+        self.loads[hour] += 1
+        self.forget()
+        after = self.cheapest()
+        self.loads[hour] -= 1
+        self.forget()
+        return [0, 0] if after is None else [0, 1, after[0] - before[0]]
+
+    def write(self):
+        """The call print."""
+        lines = []
+        for unit in self.units:
+            tokens = [f"{word} {number}" for word, number in zip(WORDS, unit[1:])]
+            lines.append(f"unit {unit[0]} " + " ".join(tokens) + "\n")
+        return [0] + list("".join(lines).encode())
+
+    def options(self, unit):
+        if unit not in range(len(self.units)):
+            return [-1]
+        if self.now == len(self.loads):
+            return [-3]
+        told = [0]
+        for chosen in self.can_be(unit, self.modes[unit], self.now):
+            told += [*chosen, self.cost_of(unit, self.modes[unit], chosen)]
+        return told
+
+    def read(self, text):
+        wrong = model_wrong(text)
+        return [0, 0, wrong] if wrong else [0, 1, text.count("\n")]
+
+    def hour_of(self, hour):
+        if hour not in range(len(self.loads)):
+            return [-1]
+        return [0, self.loads[hour]] + [int((unit, hour) not in self.out) for unit in range(len(self.units))]
+
     def answer(self, call):
         number = call[0]
-        if number == 0:
-            return self.tell(bytes(call[2:]).decode("latin-1"))
+        if number in (0, 18):
+            return {0: self.tell, 18: self.read}[number](bytes(call[2:]).decode("latin-1"))
         if number in (1, 7, 8):
             return {1: self.day, 7: self.check, 8: self.go}[number](call[2:])
         if number in (5, 6):
@@ -256,4 +393,10 @@ class Model:
             if best is None:
                 return [-4]
             return [0, best[0]] if number == 5 else [0] + [mode[2] for move in best[1] for mode in move]
+        if number == 11:
+            return self.prove(call[1], call[3:3 + call[2]], call[4 + call[2]:])
+        if number in (12, 13, 14, 16):
+            return {12: self.state, 13: self.anchor, 14: self.regret, 16: self.write}[number]()
+        if number in (10, 15, 17, 19):
+            return {10: self.table, 15: self.worth, 17: self.options, 19: self.hour_of}[number](call[1])
         return self.change(number, call[1:])

@@ -3,7 +3,12 @@
 import random
 import unittest
 
-from helper import (FAR, LEAST, PLAN, Model, ask, back, check, forecast, go, line, loads, model_units, out, trip, units)
+from helper import (ANCHOR, FAR, LEAST, PLAN, PRINT, REGRET, STATE, Model, ask, back, check, forecast, go, hour_of, line,
+                    loads, model_units, options, out, prove, read, table, trip, units, worth)
+
+# How often each of the calls 0 to 19 is made.
+OFTEN = (1, 2, 3, 2, 1, 2, 2, 3, 5, 1, 2, 3, 2, 2, 4, 3, 1, 3, 2, 2)
+NUMBERS = [number for number, often in enumerate(OFTEN) for again in range(often)]
 
 
 def some_line(dice, name, widest):
@@ -39,10 +44,36 @@ def some_levels(dice, model, hours):
     return row
 
 
+def some_text(dice):
+    """A text that may be wrong in some places."""
+    text = list(some_units(dice).encode())
+    for change in range(dice.choice([0, 1, 1, 2])):
+        place = dice.randrange(len(text))
+        text[place:place + dice.randint(0, 1)] = dice.choice([[], [32], [48], [10], [97], [57], [0], [255]])
+    return bytes(text).decode("latin-1")
+
+
+def some_rows(dice, model, hour):
+    """Two rows for prove: the tables of an hour and the next one, which may be changed a little."""
+    if hour not in model.to_come():
+        return [0], [0]
+    rows = [model.table(hour)[1:], model.table(hour + 1)[1:]]
+    for change in range(dice.choice([0, 1, 1, 2, 3])):
+        row = dice.choice(rows)
+        if row:
+            place = dice.randrange(len(row))
+            row[place] = dice.choice([row[place] - 1, row[place] + 1, -1, 0, FAR, -FAR])
+    if dice.random() < 0.05:
+        dice.choice(rows).append(0)
+    if dice.random() < 0.05:
+        rows[dice.randint(0, 1)] = rows[0][:-1]
+    return rows
+
+
 def some_call(dice, model):
     hours, many = len(model.loads), len(model.units)
     most = sum(unit[2] for unit in model.units)
-    number = dice.choice([0, 1, 1, 2, 2, 2, 3, 3, 4, 5, 5, 6, 6, 7, 7, 7, 8, 8, 8, 8, 8, 9])
+    number = dice.choice(NUMBERS)
     if number == 0:
         return units(some_units(dice)) if dice.random() < 0.2 else units(some_units(dice)[:-1])
     if number == 1:
@@ -56,42 +87,56 @@ def some_call(dice, model):
         return check(*some_levels(dice, model, 48))
     if number == 8:
         return go(*some_levels(dice, model, 1))
-    return {4: back(some_number(dice, many)), 5: LEAST, 6: PLAN, 9: trip(some_number(dice, many))}[number]
+    if number == 11:
+        hour = some_number(dice, hours)
+        return prove(hour, *some_rows(dice, model, hour))
+    if number == 18:
+        return read(some_text(dice))
+    if number in (4, 9, 17):
+        return {4: back, 9: trip, 17: options}[number](some_number(dice, many))
+    if number in (10, 15, 19):
+        return {10: table, 15: worth, 19: hour_of}[number](some_number(dice, hours + (number == 10)))
+    return {5: LEAST, 6: PLAN, 12: STATE, 13: ANCHOR, 14: REGRET, 16: PRINT}[number]
 
 
 class AgainstTheModel(unittest.TestCase):
     def hold(self, seed):
         dice = random.Random(seed)
         model = Model()
-        calls = [units(some_units(dice))]
+        # Some lists go on for a while without units.
+        calls = [units(some_units(dice) if seed % 10 else "")]
         told = [model.answer(calls[0])]
         low = sum(unit[1] for unit in model.units)
         calls.append(loads(*[dice.randint(0, low) for hour in range(dice.randint(1, 7))]))
         told.append(model.answer(calls[1]))
-        for step in range(30):
+        for step in range(40):
             calls.append(some_call(dice, model))
             told.append(model.answer(calls[-1]))
         self.assertEqual(ask(*calls), told, calls)
-        return told
+        return zip(calls, told)
 
     def test_many_lists(self):
         seen = {}
-        for seed in range(500):
-            for answer in self.hold(seed):
-                seen[answer[0]] = seen.get(answer[0], 0) + 1
-        self.assertEqual(sorted(seen), [-6, -5, -4, -3, -2, -1, 0])
+        for seed in range(300):
+            for call, answer in self.hold(seed):
+                kinds = seen.setdefault(call[0], set())
+                # These answers tell first whether something is so.
+                kinds.add(tuple(answer[:2]) if call[0] in (7, 11, 15, 18) else answer[0])
+                if call[0] == 14 and answer[0] == 0:
+                    kinds.add("above" if answer[1] > 0 else "below" if answer[1] < 0 else "even")
+        expected = {0: {0, -2, -5}, 1: {0, -1, -3}, 2: {0, -1}, 3: {0, -1}, 4: {0, -1}, 5: {0, -4}, 6: {0, -4},
+                    7: {(0, 0), (0, 1), (-1,)}, 8: {0, -1, -3, -6}, 9: {0, -1, -4}, 10: {0, -1, -3},
+                    11: {(0, 0), (0, 1), (-1,)}, 12: {0}, 13: {0, -4}, 14: {0, -3, -4, "above", "below", "even"},
+                    15: {(0, 0), (0, 1), (-1,), (-4,)}, 16: {0}, 17: {0, -1, -3}, 18: {(0, 0), (0, 1)}, 19: {0, -1}}
+        self.assertEqual(seen, expected)
 
     def test_many_texts(self):
         dice = random.Random(1)
         right = 0
         for seed in range(3000):
-            text = list(some_units(dice).encode())
-            for change in range(dice.choice([0, 1, 1, 2])):
-                place = dice.randrange(len(text))
-                text[place:place + dice.randint(0, 1)] = dice.choice([[], [32], [48], [10], [97], [57], [0], [255]])
-            written = bytes(text).decode("latin-1")
-            answer = ask(units(written))[0]
-            self.assertEqual(answer, Model().answer(units(written)), written)
+            written = some_text(dice)
+            asked = ask(units(written), read(written))
+            self.assertEqual(asked, [Model().answer(units(written)), Model().answer(read(written))], written)
             right += model_units(written) is not None
         self.assertGreater(right, 500)
         self.assertLess(right, 2500)
